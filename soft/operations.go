@@ -1,0 +1,69 @@
+package soft
+
+// The codes of the operations.
+const (
+	codeAdd = iota + 1
+	codeSub
+	codeMul
+	codeDiv
+	codeFma
+	codeSqrt
+	codeRsqrt
+	codeCbrt
+	codeHypot
+	codeClear
+)
+
+// The flags.
+const (
+	inexact = uint8(1) << iota
+	underflow
+	overflow
+	divisionByZero
+	invalid
+)
+
+// operation is how many operands matter, from the first on, and what is reckoned with them where none is a NaN.
+type operation struct {
+	operands int
+	reckon   func(Record) Result
+}
+
+// operations by their codes.
+func operations() [codeClear + 1]operation {
+	return [...]operation{
+		codeAdd:   {2, sum},
+		codeSub:   {2, difference},
+		codeMul:   {2, product},
+		codeDiv:   {0, zeros},
+		codeFma:   {0, zeros},
+		codeSqrt:  {0, zeros},
+		codeRsqrt: {0, zeros},
+		codeCbrt:  {0, zeros},
+		codeHypot: {0, zeros},
+		codeClear: {0, zeros},
+	}
+}
+
+// zeros is what clear answers, and for now each operation that is not yet built.
+func zeros(Record) Result { return Result{} }
+
+// wrong is the answer where no number is one.
+func wrong() Result { return Result{Bits: plainNaN, Flags: invalid} }
+
+// firstNaN is the answer where an operand is a NaN, and whether one is: a signalling one raises its flag wherever it stands.
+func firstNaN(operands []uint64) (Result, bool) {
+	var out Result
+	found := false
+	for _, bits := range operands {
+		kind := kindOf(bits)
+		if kind == signallingNaN {
+			out.Flags = invalid
+		}
+		if kind >= quietNaN && !found {
+			out.Bits = bits | quietBit
+			found = true
+		}
+	}
+	return out, found
+}
