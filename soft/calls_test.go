@@ -28,17 +28,22 @@ func TestNoPanic(t *testing.T) {
 				}
 				soft.Do(soft.Record{Op: byte(op), Mode: 255, A: a, B: b, C: b})
 			}
+			for _, c := range all {
+				soft.Do(soft.Record{Op: fma, A: a, B: b, C: c})
+			}
 		}
 	}
 }
 
 // P1: what Do answers hangs on its record alone.
 func TestAgain(t *testing.T) {
-	r := soft.Record{Op: add, Mode: 3, A: one, B: tiny}
-	first := soft.Do(r)
-	soft.Do(soft.Record{Op: mul, Mode: 4, A: greatest, B: greatest})
-	soft.Do(soft.Record{Op: 99})
-	expect(t, r, first)
+	for op := range byte(12) {
+		r := soft.Record{Op: op, Mode: 3, A: one, B: tiny, C: three}
+		first := soft.Do(r)
+		soft.Do(soft.Record{Op: mul, Mode: 4, A: greatest, B: greatest})
+		soft.Do(soft.Record{Op: 99})
+		expect(t, r, first)
+	}
 }
 
 func lists() [][]soft.Record {

@@ -38,11 +38,16 @@ const (
 )
 
 // exact is (-1)^sign * digits * 2^power. Where a number has more digits than fit, the lowest one is 1 in place of all below it: rounding still sees on which side of a half the number lies, as long as two digits or more are cut off.
-type exact struct {
+type exact[W wide.Words] struct {
 	sign   uint64
-	digits wide.Two
+	digits W
 	power  int
 }
+
+// pair is of what kinds two operands are.
+type pair struct{ first, second int }
+
+func (p pair) has(kind int) bool { return p.first == kind || p.second == kind }
 
 func signOf(bits uint64) uint64 { return bits >> signPlace }
 
@@ -66,13 +71,27 @@ func kindOf(bits uint64) int {
 	return signallingNaN
 }
 
+// kindsOf A and B.
+func kindsOf(r Record) pair { return pair{kindOf(r.A), kindOf(r.B)} }
+
 // exactly is the number that finite bits stand for.
-func exactly(bits uint64) exact {
+func exactly(bits uint64) exact[wide.Two] {
 	exponent, fraction := exponentOf(bits), bits&fractionPart
 	if exponent == 0 {
-		return exact{signOf(bits), wide.Two{fraction}, leastPower}
+		return exact[wide.Two]{signOf(bits), wide.Two{fraction}, leastPower}
 	}
-	return exact{signOf(bits), wide.Two{fraction | hidden}, leastPower + int(exponent) - 1}
+	return exact[wide.Two]{signOf(bits), wide.Two{fraction | hidden}, leastPower + int(exponent) - 1}
+}
+
+// wider is the same number, with room for more digits.
+func wider(x exact[wide.Two]) exact[wide.Four] {
+	return exact[wide.Four]{x.sign, wide.Wider(x.digits), x.power}
+}
+
+// opposite is -x.
+func opposite[W wide.Words](x exact[W]) exact[W] {
+	x.sign ^= 1
+	return x
 }
 
 // signed are bits without a sign, given one.

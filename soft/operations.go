@@ -23,25 +23,26 @@ const (
 	invalid
 )
 
-// operation is how many operands matter, from the first on, and what is reckoned with them where none is a NaN.
+// operation is how many operands matter, from the first on, what is reckoned with them where none is a NaN, and where that is the answer despite a quiet NaN (nil: nowhere).
 type operation struct {
 	operands int
 	reckon   func(Record) Result
+	despite  func(Record) bool
 }
 
 // operations by their codes.
 func operations() [codeClear + 1]operation {
 	return [...]operation{
-		codeAdd:   {2, sum},
-		codeSub:   {2, difference},
-		codeMul:   {2, product},
-		codeDiv:   {0, zeros},
-		codeFma:   {0, zeros},
-		codeSqrt:  {0, zeros},
-		codeRsqrt: {0, zeros},
-		codeCbrt:  {0, zeros},
-		codeHypot: {0, zeros},
-		codeClear: {0, zeros},
+		codeAdd:   {2, sum, nil},
+		codeSub:   {2, difference, nil},
+		codeMul:   {2, product, nil},
+		codeDiv:   {2, quotient, nil},
+		codeFma:   {3, fused, zeroTimesInfinity},
+		codeSqrt:  {0, zeros, nil},
+		codeRsqrt: {0, zeros, nil},
+		codeCbrt:  {0, zeros, nil},
+		codeHypot: {0, zeros, nil},
+		codeClear: {0, zeros, nil},
 	}
 }
 

@@ -28,7 +28,7 @@ var growth = [5][2][4]uint8{
 }
 
 // round is the result for a number that is not 0.
-func round(x exact, mode byte) Result {
+func round[W wide.Words](x exact[W], mode byte) Result {
 	unit := x.power + wide.Length(x.digits) - (fractionBits + 1)
 	kept, changed := roundTo(x, unit, mode)
 	if kept == hidden<<1 {
@@ -53,7 +53,7 @@ func round(x exact, mode byte) Result {
 }
 
 // roundTo is how many units of 2^unit x is, rounded, and whether that changed it.
-func roundTo(x exact, unit int, mode byte) (uint64, bool) {
+func roundTo[W wide.Words](x exact[W], unit int, mode byte) (uint64, bool) {
 	if unit <= x.power {
 		return wide.Left(x.digits, uint(x.power-unit))[0], false
 	}

@@ -29,7 +29,8 @@ func Do(r Record) Result {
 	}
 	op := operations()[r.Op]
 	operands := [3]uint64{r.A, r.B, r.C}
-	if out, found := firstNaN(operands[:op.operands]); found {
+	out, found := firstNaN(operands[:op.operands])
+	if found && (out.Flags == invalid || op.despite == nil || !op.despite(r)) {
 		return out
 	}
 	return op.reckon(r)

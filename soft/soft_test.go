@@ -122,13 +122,18 @@ func TestExamples(t *testing.T) {
 		{add, "013", greatest, greatest, infinite, 5},
 		{add, "24", greatest, greatest, greatest, 5},
 		{mul, "0", leastNormal, belowOne, leastNormal, 3},
+		{div, allModes, one, 0, infinite, 8},
+		{div, allModes, 0, 0, plainNaN, 16},
 		{add, allModes, signalling, one, 0x7ff8000000000001, 16},
 	})
+	for mode := range byte(5) {
+		expect(t, soft.Record{Op: fma, Mode: mode, A: nextToOne, B: belowOne, C: minus | one}, soft.Result{Bits: 0x3c9ffffffffffffe})
+	}
 }
 
-// P3, rule 1.
+// P3, rule 1, of two operands.
 func TestNaN(t *testing.T) {
-	for _, op := range []byte{add, sub, mul} {
+	for _, op := range []byte{add, sub, mul, div} {
 		check(t, []row{
 			{op, allModes, quiet, one, quiet, 0},
 			{op, allModes, one, quiet, quiet, 0},
@@ -147,14 +152,14 @@ func TestNaN(t *testing.T) {
 
 // P3: C stands in none of these formulas.
 func TestThirdOperand(t *testing.T) {
-	for op, want := range map[byte]uint64{add: three, sub: minus | one, mul: two} {
+	for op, want := range map[byte]uint64{add: three, sub: minus | one, mul: two, div: half} {
 		for _, c := range []uint64{three, infinite, quiet, signalling} {
 			expect(t, soft.Record{Op: op, A: one, B: two, C: c}, soft.Result{Bits: want})
 		}
 	}
 }
 
-// P3, rules 2 and 3.
+// P3, rules 2 and 3 of add, sub and mul.
 func TestInfinities(t *testing.T) {
 	rows := []row{
 		{add, allModes, infinite, minus | infinite, plainNaN, 16},
@@ -184,7 +189,7 @@ func TestInfinities(t *testing.T) {
 	check(t, rows)
 }
 
-// P3, rule 5.
+// P3, rule 5 of add, sub and mul.
 func TestZeros(t *testing.T) {
 	check(t, []row{
 		{add, allModes, 0, 0, 0, 0},

@@ -2,9 +2,6 @@ package soft
 
 import "softfloat/wide"
 
-// room is how far the digits of a number can be moved up so that a sum of two such still fits.
-const room = 70
-
 // difference is a sum with the other sign of B: a NaN, whose sign must stay, does not come here.
 func difference(r Record) Result {
 	r.B ^= signBit
@@ -22,22 +19,28 @@ func sum(r Record) Result {
 	case second:
 		return Result{Bits: r.B}
 	}
-	x := exactSum(exactly(r.A), exactly(r.B), r.Mode)
-	if x.digits == (wide.Two{}) {
+	return roundedSum(exactly(r.A), exactly(r.B), r.Mode)
+}
+
+// roundedSum of two numbers, either or both of which may be 0.
+func roundedSum[W wide.Words](x, y exact[W], mode byte) Result {
+	x = exactSum(x, y, mode)
+	var none W
+	if x.digits == none {
 		return Result{Bits: signed(x.sign, 0)}
 	}
-	return round(x, r.Mode)
+	return round(x, mode)
 }
 
 // exactSum of two numbers; the mode is asked for the sign of a 0 alone.
-func exactSum(x, y exact, mode byte) exact {
+func exactSum[W wide.Words](x, y exact[W], mode byte) exact[W] {
 	x, y = aligned(x, y)
+	if x == opposite(y) {
+		return exact[W]{sign: zeroSign(mode)}
+	}
 	if x.sign == y.sign {
 		x.digits = wide.Add(x.digits, y.digits)
 		return x
-	}
-	if x.digits == y.digits {
-		return exact{sign: zeroSign(mode)}
 	}
 	digits, wrapped := wide.Sub(x.digits, y.digits)
 	if wrapped {
@@ -56,13 +59,13 @@ func zeroSign(mode byte) uint64 {
 	return 0
 }
 
-// aligned gives both numbers one power, the one of the greater power first. That one is a normal wherever the other is cut, so the sum has more than 120 digits there, and the lowest may stand for what is lost.
-func aligned(x, y exact) (exact, exact) {
+// aligned gives both numbers one power, the one of the greater power first. Where the other is cut, that one must not be 0: it then reaches so far above the other that the sum has nearly all the digits there are, and the lowest may stand for what is lost.
+func aligned[W wide.Words](x, y exact[W]) (exact[W], exact[W]) {
 	if x.power < y.power {
 		x, y = y, x
 	}
 	apart := x.power - y.power
-	lift := min(apart, room)
+	lift := min(apart, wide.Room(x.digits)-1) // one place is left for a carry
 	x.digits = wide.Left(x.digits, uint(lift))
 	x.power -= lift
 	kept, rest := wide.Cut(y.digits, uint(apart-lift))

@@ -30,6 +30,9 @@ func Product(x, y uint64) Two {
 	return Two{low, high}
 }
 
+// Wider is x, with words of 0 above.
+func Wider(x Two) Four { return Four{x[0], x[1]} }
+
 // Add is x + y.
 func Add[W Words](x, y W) W {
 	var sum W
@@ -59,6 +62,9 @@ func Length[W Words](x W) int {
 	}
 	return 0
 }
+
+// Room is how many places stand empty above the digits of x.
+func Room[W Words](x W) int { return len(x)*wordBits - Length(x) }
 
 // Left is x * 2^n, less what leaves the highest word.
 func Left[W Words](x W, n uint) W {

@@ -69,6 +69,9 @@ func shiftsOf[W Words](t *testing.T) {
 		if got := Length(x); got != whole(x).BitLen() {
 			t.Fatalf("Length(%x) = %d", x, got)
 		}
+		if got := Room(x); got != 64*len(x)-whole(x).BitLen() {
+			t.Fatalf("Room(%x) = %d", x, got)
+		}
 		for _, n := range []uint{0, 1, 2, 53, 63, 64, 65, 127, 128, 129, 192, 255, 256, 257, 320, 2100} {
 			want := wrapped[W](new(big.Int).Lsh(whole(x), n))
 			if got := Left(x, n); whole(got).Cmp(want) != 0 {
@@ -91,6 +94,14 @@ func TestSums(t *testing.T) {
 func TestShifts(t *testing.T) {
 	t.Run("two words", shiftsOf[Two])
 	t.Run("four words", shiftsOf[Four])
+}
+
+func TestWider(t *testing.T) {
+	for _, x := range samples[Two]() {
+		if got := Wider(x); whole(got).Cmp(whole(x)) != 0 {
+			t.Errorf("Wider(%x) = %x", x, got)
+		}
+	}
 }
 
 func TestProduct(t *testing.T) {
