@@ -78,16 +78,38 @@ func TestEnvCalls(t *testing.T) {
 	}
 }
 
-// P1: lists that are answered are new, each time.
+// P1: a nil *Env answers, and keeps nothing.
+func TestNilEnv(t *testing.T) {
+	var e *soft.Env
+	l := []soft.Record{rounds, cleared, invalid, badCode}
+	for range 2 {
+		if got := told(t, e.Run(l), 0); !slices.Equal(got, answers(l)) {
+			t.Errorf("P4: %v", got)
+		}
+		expectBatch(t, e, [][]soft.Record{l, nil, l[1:]}, 0)
+	}
+}
+
+// P1: lists that are answered are new, each time, and share nothing among themselves.
 func TestNewLists(t *testing.T) {
 	var e soft.Env
 	first, second := e.Batch(lists()), e.Batch(lists())
-	for i := range first {
-		for k := range first[i] {
-			first[i][k] = soft.Result{Bits: 77}
-			if second[i][k] == first[i][k] {
+	for i, l := range first {
+		if len(l) != len(lists()[i]) {
+			t.Fatalf("P5: list %d: %d results", i, len(l))
+		}
+		mark := soft.Result{Bits: 77}
+		for k := range l {
+			l[k] = mark
+		}
+		_ = append(l, mark)
+		for k := range second[i] {
+			if second[i][k] == mark {
 				t.Errorf("P1: result %d of list %d stands in two answers", k, i)
 			}
+		}
+		if i+1 < len(first) && slices.Contains(first[i+1], mark) {
+			t.Errorf("P1: lists %d and %d share memory", i, i+1)
 		}
 	}
 }

@@ -37,6 +37,9 @@ const (
 	greatestPower = 971
 )
 
+// wordDigits is how many digits a word has.
+const wordDigits = 64
+
 // exact is (-1)^sign * digits * 2^power. Where a number has more digits than fit, the lowest one is 1 in place of all below it: rounding still sees on which side of a half the number lies, as long as two digits or more are cut off.
 type exact[W wide.Words] struct {
 	sign   uint64

@@ -38,15 +38,15 @@ func operations() [codeClear + 1]operation {
 		codeMul:   {2, product, nil},
 		codeDiv:   {2, quotient, nil},
 		codeFma:   {3, fused, zeroTimesInfinity},
-		codeSqrt:  {0, zeros, nil},
-		codeRsqrt: {0, zeros, nil},
-		codeCbrt:  {0, zeros, nil},
-		codeHypot: {0, zeros, nil},
+		codeSqrt:  {1, squareRoot, nil},
+		codeRsqrt: {1, inverseRoot, nil},
+		codeCbrt:  {1, cubeRoot, nil},
+		codeHypot: {2, hypotenuse, anInfinity},
 		codeClear: {0, zeros, nil},
 	}
 }
 
-// zeros is what clear answers, and for now each operation that is not yet built.
+// zeros is what clear answers.
 func zeros(Record) Result { return Result{} }
 
 // wrong is the answer where no number is one.

@@ -6,9 +6,6 @@ import (
 	"softfloat/wide"
 )
 
-// wordDigits is how far a division moves its dividend up.
-const wordDigits = 64
-
 // quotient of A and B, neither of them a NaN.
 func quotient(r Record) Result {
 	sign := signOf(r.A) ^ signOf(r.B)

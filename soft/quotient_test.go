@@ -38,7 +38,7 @@ func TestQuotientSpecial(t *testing.T) {
 
 // P3, rule 6 of div: exact and not. (Where no digit is lost below the least normal, no quotient falls on a half.)
 func TestQuotient(t *testing.T) {
-	const five, six = 0x4014000000000000, 0x4018000000000000
+	const six = 0x4018000000000000
 	check(t, []row{
 		{div, allModes, one, two, half, 0},
 		{div, allModes, one, minus | two, minus | half, 0},

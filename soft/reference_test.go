@@ -7,7 +7,7 @@ import (
 	"softfloat/soft"
 )
 
-// basePower: 2 to this is so small that of every sum, product and quotient of finite numbers more than 53 digits stand above it.
+// basePower: 2 to this is so small that of every sum, product, quotient and root of finite numbers more than 53 digits stand above it.
 const basePower = -2300
 
 // ratio is the number over / under * 2^basePower; under is above 0.
@@ -122,6 +122,8 @@ func exactly(op byte, a, b, c uint64) ratio {
 	case fma:
 		x.Mul(x, multiple(b, -1074)).Rsh(x, 1074)
 		x.Add(x, multiple(c, basePower))
+	default:
+		return rootOf(op, a, b)
 	}
 	return ratio{x, under}
 }
@@ -145,9 +147,9 @@ func compareAll(t *testing.T, a, b uint64) {
 	}
 }
 
-// P3, rule 6: every pair of the edges.
-func TestEdges(t *testing.T) {
-	edges := []uint64{
+// edges: numbers beside which digits, exponents or halves change.
+func edges() []uint64 {
+	return []uint64{
 		0, least, 2, 3, 0x0007ffffffffffff, 0x0008000000000000, greatestSub - 1, greatestSub,
 		leastNormal, leastNormal + 1, 0x001fffffffffffff, 0x0020000000000000, 0x0350000000000001,
 		0x1e50000000000000, 0x1ff0000000000000, 0x1ff7ffffffffffff, 0x2000000000000001,
@@ -158,8 +160,12 @@ func TestEdges(t *testing.T) {
 		0x7c8fffffffffffff, 0x7c90000000000000, 0x7ca0000000000000, 0x7fdfffffffffffff,
 		0x7fe0000000000000, greatest - 1, greatest,
 	}
-	for _, a := range edges {
-		for _, b := range edges {
+}
+
+// P3, rule 6: every pair of the edges.
+func TestEdges(t *testing.T) {
+	for _, a := range edges() {
+		for _, b := range edges() {
 			compareAll(t, a, b)
 			compareAll(t, a, minus|b)
 			compareAll(t, minus|a, b)

@@ -61,7 +61,10 @@ func roundTo[W wide.Words](x exact[W], unit int, mode byte) (uint64, bool) {
 	kept := whole[0]
 	switch growth[mode][x.sign][rest] {
 	case ifOdd:
-		kept += kept & 1
+		if kept&1 == 0 {
+			break
+		}
+		fallthrough
 	case always:
 		kept++
 	}

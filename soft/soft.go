@@ -35,15 +35,3 @@ func Do(r Record) Result {
 	}
 	return op.reckon(r)
 }
-
-// Env has flags.
-type Env struct{}
-
-// Flags, Run and Batch: P4, P5.
-func (e *Env) Flags() uint8 { return 0 }
-
-func (e *Env) Run(l []Record) func(yield func(int, Result) bool) {
-	return func(func(int, Result) bool) {}
-}
-
-func (e *Env) Batch(ls [][]Record) [][]Result { return nil }

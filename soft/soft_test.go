@@ -14,6 +14,9 @@ const (
 	belowOne    = 0x3fefffffffffffff
 	two         = 0x4000000000000000
 	three       = 0x4008000000000000
+	four        = 0x4010000000000000
+	five        = 0x4014000000000000
+	eight       = 0x4020000000000000
 	half        = 0x3fe0000000000000
 	tiny        = 0x3ca0000000000000 // 2^-53
 	least       = 0x0000000000000001
@@ -110,7 +113,7 @@ func TestClear(t *testing.T) {
 	}
 }
 
-// P3: the rows of section 'Examples' that speak of these operations.
+// P3: the rows of section 'Examples'.
 func TestExamples(t *testing.T) {
 	check(t, []row{
 		{add, allModes, one, two, three, 0},
@@ -125,6 +128,11 @@ func TestExamples(t *testing.T) {
 		{div, allModes, one, 0, infinite, 8},
 		{div, allModes, 0, 0, plainNaN, 16},
 		{add, allModes, signalling, one, 0x7ff8000000000001, 16},
+		{sqrt, "0", two, 0, 0x3ff6a09e667f3bcd, 1},
+		{rsqrt, allModes, four, 0, half, 0},
+		{cbrt, allModes, minus | eight, 0, minus | two, 0},
+		{hypot, allModes, three, minus | four, five, 0},
+		{hypot, allModes, infinite, quiet, infinite, 0},
 	})
 	for mode := range byte(5) {
 		expect(t, soft.Record{Op: fma, Mode: mode, A: nextToOne, B: belowOne, C: minus | one}, soft.Result{Bits: 0x3c9ffffffffffffe})
@@ -133,12 +141,11 @@ func TestExamples(t *testing.T) {
 
 // P3, rule 1, of two operands.
 func TestNaN(t *testing.T) {
-	for _, op := range []byte{add, sub, mul, div} {
+	for _, op := range []byte{add, sub, mul, div, hypot} {
 		check(t, []row{
 			{op, allModes, quiet, one, quiet, 0},
 			{op, allModes, one, quiet, quiet, 0},
 			{op, allModes, one, minus | quiet, minus | quiet, 0},
-			{op, allModes, infinite, quiet, quiet, 0},
 			{op, allModes, 0, quiet, quiet, 0},
 			{op, allModes, quiet, minus | plainNaN, quiet, 0},
 			{op, allModes, signalling, infinite, signalling | 1<<51, 16},
@@ -148,14 +155,25 @@ func TestNaN(t *testing.T) {
 			{op, allModes, signalling | 2, minus | signalling, signalling | 2 | 1<<51, 16},
 		})
 	}
+	for _, op := range []byte{add, sub, mul, div} {
+		check(t, []row{
+			{op, allModes, infinite, quiet, quiet, 0},
+			{op, allModes, quiet, minus | infinite, quiet, 0},
+		})
+	}
 }
 
-// P3: C stands in none of these formulas.
-func TestThirdOperand(t *testing.T) {
-	for op, want := range map[byte]uint64{add: three, sub: minus | one, mul: two, div: half} {
-		for _, c := range []uint64{three, infinite, quiet, signalling} {
-			expect(t, soft.Record{Op: op, A: one, B: two, C: c}, soft.Result{Bits: want})
+// P3: operands that stand in no formula do not matter.
+func TestOtherOperands(t *testing.T) {
+	for _, x := range []uint64{three, minus, infinite, quiet, signalling} {
+		for op, want := range map[byte]uint64{add: five, sub: minus | one, mul: 0x4018000000000000} {
+			expect(t, soft.Record{Op: op, A: two, B: three, C: x}, soft.Result{Bits: want})
 		}
+		expect(t, soft.Record{Op: div, A: one, B: two, C: x}, soft.Result{Bits: half})
+		expect(t, soft.Record{Op: hypot, A: three, B: four, C: x}, soft.Result{Bits: five})
+		expect(t, soft.Record{Op: sqrt, A: four, B: x, C: x}, soft.Result{Bits: two})
+		expect(t, soft.Record{Op: rsqrt, A: four, B: x, C: x}, soft.Result{Bits: half})
+		expect(t, soft.Record{Op: cbrt, A: eight, B: x, C: x}, soft.Result{Bits: two})
 	}
 }
 

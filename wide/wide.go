@@ -53,6 +53,18 @@ func Sub[W Words](x, y W) (W, bool) {
 	return difference, borrow == 1
 }
 
+// Times is x * y, less what leaves the highest word.
+func Times[W Words](x W, y uint64) W {
+	var product W
+	var carry, more uint64
+	for i := 0; i < len(x); i++ {
+		high, low := bits.Mul64(x[i], y)
+		product[i], more = bits.Add64(low, carry, 0)
+		carry = high + more // of two words' product the high one is never full
+	}
+	return product
+}
+
 // Length is how many binary digits x has; of 0 it is 0.
 func Length[W Words](x W) int {
 	for i := len(x) - 1; i >= 0; i-- {

@@ -5,14 +5,15 @@ import (
 	"testing"
 )
 
+func words() []uint64 { return []uint64{0, 1, 1 << 63, ^uint64(0), 0x0123456789abcdef} }
+
 // samples: every pattern of words in which a carry, a borrow or a shift may go wrong.
 func samples[W Words]() []W {
-	words := []uint64{0, 1, 1 << 63, ^uint64(0), 0x0123456789abcdef}
 	out := []W{*new(W)}
 	for i := 0; i < len(*new(W)); i++ {
 		var next []W
 		for _, x := range out {
-			for _, w := range words {
+			for _, w := range words() {
 				x[i] = w
 				next = append(next, x)
 			}
@@ -55,6 +56,17 @@ func sumsOf[W Words](t *testing.T) {
 	}
 }
 
+func timesOf[W Words](t *testing.T) {
+	for _, x := range samples[W]() {
+		for _, y := range words() {
+			want := wrapped[W](new(big.Int).Mul(whole(x), new(big.Int).SetUint64(y)))
+			if got := Times(x, y); whole(got).Cmp(want) != 0 {
+				t.Fatalf("Times(%x, %x) = %x", x, y, got)
+			}
+		}
+	}
+}
+
 func restOf(x *big.Int, n uint) Rest {
 	unit := new(big.Int).Lsh(big.NewInt(1), n)
 	rest := new(big.Int).Mod(x, unit)
@@ -89,6 +101,11 @@ func shiftsOf[W Words](t *testing.T) {
 func TestSums(t *testing.T) {
 	t.Run("two words", sumsOf[Two])
 	t.Run("four words", sumsOf[Four])
+}
+
+func TestTimes(t *testing.T) {
+	t.Run("two words", timesOf[Two])
+	t.Run("four words", timesOf[Four])
 }
 
 func TestShifts(t *testing.T) {
